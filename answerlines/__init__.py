@@ -1,0 +1,1 @@
+"""Answerlines: fractions named by turns, and answers that win every play."""

@@ -1,0 +1,12 @@
+"""The bounds that the whole package keeps."""
+
+MAX_UNKNOWNS = 8
+MAX_LOTS = 16
+MAX_ROWS = 16
+MAX_CLAIM = 200
+MAX_STEPS = 4000
+MAX_FIGURES = 400
+MAX_NODES = 200
+MAX_NEST = 20
+MAX_EVENTS = 8
+MAX_EDITS = 40

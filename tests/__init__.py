@@ -1,0 +1,1 @@
+"""Tests of answerlines; run them as README.md tells."""
