@@ -26,10 +26,10 @@ def _are_numbers(k, value):
         return False
     if not all([is_integer(number) for number in value]):
         return False
-    return _common_divisor(value) <= 1
+    return common_divisor(value) <= 1
 
 
-def _common_divisor(numbers):
+def common_divisor(numbers):
     """Return the greatest common divisor of numbers, 0 if all of them are 0."""
     common = 0
     for number in numbers:
@@ -42,11 +42,15 @@ def row_of(word, form):
     scale = 1
     for fraction in form:
         scale = lcm(scale, fraction[1])
-    numbers = [a * (scale // b) for a, b in form]
-    common = _common_divisor(numbers)
-    if common == 0:
-        return (word, tuple(numbers))
-    return (word, tuple([number // common for number in numbers]))
+    return (word, divided([a * (scale // b) for a, b in form]))
+
+
+def divided(numbers):
+    """Return the tuple of numbers without a common divisor above 1."""
+    common = common_divisor(numbers)
+    if common <= 1:
+        return tuple(numbers)
+    return tuple([number // common for number in numbers])
 
 
 def form_of(row):

@@ -29,6 +29,18 @@ ARGUMENTS = {
     "play_error": ("sentence", "value"),
     "result": ("sentence", "play"),
     "rest": ("sentence", "play"),
+    "thinned": ("some",),
+    "rests": ("k", "claim"),
+    "lowers": ("k", "claim"),
+    "uppers": ("k", "claim"),
+    "paper_error": ("sentence", "value"),
+    "claims_of": ("sentence", "paper"),
+    "trimmed": ("sentence", "paper"),
+    "paper_text": ("paper",),
+    "read_paper": ("value",),
+    "why": ("sentence", "paper", "play"),
+    "reply": ("sentence", "paper", "play"),
+    "followed": ("sentence", "paper", "others"),
 }
 
 OF_SIXTY = 10 ** 59 + 7

@@ -7,7 +7,7 @@ from answerlines import errors
 from tests.helping import same
 
 TEXT = pathlib.Path(__file__).with_name("examples.txt").read_text(encoding="utf-8")
-PROMISES = ("A5", "A6", "A7", "A8", "A9", "B2", "B3", "B4")
+PROMISES = ("A5", "A6", "A7", "A8", "A9", "B2", "B3", "B4", "C2", "C4", "C5", "D2", "D3")
 
 
 def steps_of(text):
@@ -46,8 +46,8 @@ class Examples(unittest.TestCase):
     def test_none_is_left_out(self):
         steps = steps_of(TEXT)
         self.assertEqual(set(PROMISES), {promise for promise, _, _ in steps})
-        self.assertEqual(37, len(steps))
-        self.assertEqual(28, len([told for _, _, told in steps if told]))
+        self.assertEqual(75, len(steps))
+        self.assertEqual(49, len([told for _, _, told in steps if told]))
 
 
 if __name__ == "__main__":

@@ -16,6 +16,10 @@ INTERFACE = {
     "sentences": ("sentence_error", "owner_of"),
     "sentencetexts": ("sentence_text", "read_sentence", "lot_text", "read_lot"),
     "plays": ("play_error", "result", "rest"),
+    "claims": ("thinned", "rests", "lowers", "uppers"),
+    "papers": ("paper_error", "claims_of", "trimmed"),
+    "papertexts": ("paper_text", "read_paper"),
+    "replies": ("reply", "why", "followed"),
 }
 
 
