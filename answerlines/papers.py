@@ -112,7 +112,7 @@ def _is_paper_form(value):
 
 
 def _is_step_form(value):
-    if not isinstance(value, tuple) or len(value) not in (2, 3) or not isinstance(value[0], str):
+    if not isinstance(value, tuple) or len(value) not in (2, 3):
         return False
     if value[0] == "answer":
         return len(value) == 3 and _is_place(value[1]) and _is_form(value[2])
@@ -159,7 +159,8 @@ def _are_spots(lots, spots):
 
 
 def _answer_error(sentence, side, level, form):
-    if level == 0 or len(form) != level:
+    # Forms have a fraction at least: with the level 0 none fits.
+    if len(form) != level:
         return "level"
     return None if owner_of(sentence, level) == HOLDERS[side] else "owner"
 

@@ -41,6 +41,19 @@ ARGUMENTS = {
     "why": ("sentence", "paper", "play"),
     "reply": ("sentence", "paper", "play"),
     "followed": ("sentence", "paper", "others"),
+    "table_of": ("sentence", "paper"),
+    "table_reply": ("told", "play"),
+    "find": ("sentence",),
+    "decided": ("sentence",),
+    "winner": ("sentence", "play"),
+    "core": ("sentence",),
+    "follows": ("k", "lot", "row"),
+    "counter": ("k", "lot", "row"),
+    "weights": ("k", "lot", "row"),
+    "weights_error": ("k", "lot", "row", "value"),
+    "slim": ("sentence",),
+    "formula_error": ("value",),
+    "free_names": ("formula",),
 }
 
 OF_SIXTY = 10 ** 59 + 7

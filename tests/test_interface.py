@@ -20,6 +20,10 @@ INTERFACE = {
     "papers": ("paper_error", "claims_of", "trimmed"),
     "papertexts": ("paper_text", "read_paper"),
     "replies": ("reply", "why", "followed"),
+    "tables": ("table_of", "table_reply"),
+    "search": ("find", "decided", "winner", "core"),
+    "sums": ("follows", "counter", "weights", "weights_error", "slim"),
+    "formulas": ("formula_error", "free_names"),
 }
 
 

@@ -38,12 +38,11 @@ BAD = [
     "yes: lot 0 lot 0", "yes: lot 0, lot 0", "yes: lot 0: lot 0", "yes: lot 0. lot 0", "no: lot", "yes: the lot 0",
     # Items more, fewer, exchanged.
     "yes: lot", "yes: lot 0 0", "yes: lot ,", "yes: lot 0,", "yes: cover", "yes: cover ,", "yes: cover 0,",
-    "yes: cover 0, 0",
-    "no: against 0,", "no: against 0, 0", "no: against ,", "yes: answer", "yes: answer 0", "yes: answer 0,",
-    "yes: answer 0, ",
-    "yes: answer , 0", "yes: answer 0 0", "yes: answer 0 0,", "yes: answer 0,, 0", "yes: answer 0, 0,",
-    "yes: answer 0, 0, 0",
-    "yes: answer 0, ,", "yes: answer ,0 0", "yes: answer 0; 0", "yes: answer, 0 0", "yes: answer 1/2, 0",
+    "yes: cover 0, 0", "no: against 0,", "no: against 0, 0", "no: against ,", "yes: answer", "yes: answer 0",
+    "yes: answer 0,", "yes: answer 0, ", "yes: answer , 0", "yes: answer 0 0", "yes: answer 0 0,",
+    "yes: answer 00 0", "yes: answer 12 0", "yes: answer 0. 0", "yes: answer 0,, 0", "yes: answer 0, 0,",
+    "yes: answer 0, 0, 0", "yes: answer 0, ,", "yes: answer ,0 0", "yes: answer 0; 0", "yes: answer, 0 0",
+    "yes: answer 1/2, 0",
     # Integers that are not written so, or are below 0.
     "yes: lot 00", "yes: lot 01", "yes: lot -1", "yes: lot -0", "yes: lot +1", "yes: lot 1.0", "yes: lot 1_0",
     "yes: lot 1e1",
