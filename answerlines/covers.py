@@ -86,13 +86,7 @@ def _leads_beyond(front, high):
 
 def _next_low(front, stretches):
     """Return the least low end of the stretches that begin beyond front, None if none does."""
-    lows = [low for _, (low, _) in stretches if not _goes_on(front, low)]
-    best = None
-    for low in lows:
-        side = -1 if best is None else compared(low[0], best[0])
-        if side < 0 or (side == 0 and low[1]):
-            best = low
-    return best
+    return tightest_end(-1, [low for _, (low, _) in stretches if not _goes_on(front, low)])
 
 
 def number_in(gap):

@@ -4,6 +4,7 @@ import itertools
 import random
 import unittest
 from fractions import Fraction
+from unittest import mock
 
 from answerlines.bounds import MAX_CLAIM, MAX_STEPS
 from answerlines.errors import TooMany
@@ -232,6 +233,19 @@ class TooGreat(unittest.TestCase):
                     function(sentence, *more)
                 self.assertEqual(MAX_STEPS, caught.exception.limit)
         self.assertTrue(told)
+
+    def test_as_many_steps_and_rows_as_there_may_be(self):
+        # A paper of few steps, in which a claim has 3 rows: so lesser bounds refuse it.
+        sentence = ("ss", ((("gt", (0, 1, 0)), ("gt", (0, 0, 1)), ("gt", (1, -1, -1))),))
+        steps = len(find(sentence)[1])
+        self.assertEqual(3, max(len(claim) for _, claim in claims_of(sentence, find(sentence))))
+        with mock.patch("answerlines.meetings.MAX_CLAIM", 3):
+            self.assertIsNone(paper_error(sentence, find(sentence)))
+        with mock.patch("answerlines.meetings.MAX_CLAIM", 2), self.assertRaises(TooMany):
+            find(sentence)
+        with mock.patch("answerlines.meetings.MAX_STEPS", steps - 1), self.assertRaises(TooMany) as caught:
+            find(sentence)
+        self.assertEqual(steps - 1, caught.exception.limit)
 
 
 class Winner(Checks, unittest.TestCase):
