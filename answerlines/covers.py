@@ -14,8 +14,14 @@ def stretch_at(claim, point):
     k = len(point)
     if not holds_at([row for row in claim if row[1][k] == 0], point):
         return None
-    low = tightest_end(1, [end_at(row, point) for row in rising(k, claim)])
-    high = tightest_end(-1, [end_at(row, point) for row in falling(k, claim)])
+    lows = [end_at(row, point) for row in rising(k, claim)]
+    highs = [end_at(row, point) for row in falling(k, claim)]
+    return stretch_within(lows, highs)
+
+
+def stretch_within(lows, highs):
+    """Return the stretch of what all of these ends let, None if they let nothing."""
+    low, high = tightest_end(1, lows), tightest_end(-1, highs)
     if low is not None and high is not None:
         side = compared(low[0], high[0])
         if side > 0 or (side == 0 and not (low[1] and high[1])):
@@ -62,8 +68,8 @@ def _farthest(front, stretches):
     """Return the pair (number, high end) of the one that leads farthest beyond front."""
     best = None
     for number, (low, high) in stretches:
-        if _goes_on(front, low) and _leads_beyond(front, high):
-            if best is None or (best[1] is not None and _leads_beyond(best[1], high)):
+        if _goes_on(front, low) and leads_beyond(front, high):
+            if best is None or (best[1] is not None and leads_beyond(best[1], high)):
                 best = (number, high)
     return best
 
@@ -76,7 +82,7 @@ def _goes_on(front, low):
     return side < 0 or (side == 0 and (low[1] or front[1]))
 
 
-def _leads_beyond(front, high):
+def leads_beyond(front, high):
     """Return whether what ends at high has numbers beyond front."""
     if high is None or front is None:
         return True
@@ -92,15 +98,18 @@ def _next_low(front, stretches):
 def number_in(gap):
     """Return a simple number in gap, as chain_of tells it."""
     front, following = gap
-    if front is None and following is None:
+    low = None if front is None else front[0]
+    high = None if following is None else following[0]
+    return low if low is not None and low == high else number_between(low, high)
+
+
+def number_between(low, high):
+    """Return the simplest number above low and below high; None sets no bound."""
+    if low is None and high is None:
         return (0, 1)
-    if front is None:
-        return _whole_below(following[0])
-    if following is None:
-        return _whole_above(front[0])
-    if front[0] == following[0]:
-        return front[0]
-    return between(front[0], following[0])
+    if low is None:
+        return _whole_below(high)
+    return _whole_above(low) if high is None else between(low, high)
 
 
 def _whole_above(fraction):

@@ -1,6 +1,11 @@
 """Forms: a constant, and each unknown times its number, added up."""
 
-from answerlines.fractions import lowest
+from answerlines.fractions import is_fraction, lowest
+
+
+def is_form(value):
+    """Return whether value is a form of any number of unknowns."""
+    return isinstance(value, tuple) and len(value) > 0 and all([is_fraction(item) for item in value])
 
 
 def form_value(form, play):

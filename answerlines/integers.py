@@ -9,6 +9,11 @@ def is_integer(value):
     return isinstance(value, int) and not isinstance(value, bool)
 
 
+def has_few_figures(number):
+    """Return whether number has at most MAX_FIGURES figures."""
+    return abs(number) < int("1" + "0" * MAX_FIGURES)
+
+
 def read_figures(text):
     """Return the integer, 0 or above, that is written as text."""
     if not (text.isascii() and text.isdigit()):

@@ -15,7 +15,7 @@ class Search:
     """Steps of both sides of a sentence, made as plays are met in which none holds yet."""
 
     def __init__(self, sentence):
-        self.sentence = sentence
+        self.told = sentence
         self.steps = []
         # The pair (level, claim) of each step, and its side.
         self.made = []
@@ -29,10 +29,20 @@ class Search:
         for number in self.levels[k]:
             if holds_at(self.made[number][1], point):
                 return number
-        owners, lots = self.sentence
+        owners, lots = self.told
         if k == len(owners):
             return self._judged(lots, point)
         return self._turned("yes" if owners[k] == "s" else "no", point)
+
+    def whole_line(self, point):
+        """Return pairs (number, stretch) of steps whose stretches cover the line behind point's play."""
+        covered = self._stretches(point)
+        while True:
+            gap = chain_of(covered)[1]
+            if gap is None:
+                return covered
+            number = self.meet(longer(point, number_in(gap)))
+            covered.append((number, stretch_at(self.made[number][1], point)))
 
     def paper(self, number):
         """Return the paper that ends with the step of this number."""
@@ -79,7 +89,7 @@ class Search:
     def _make(self, side, step):
         """Return the number of step, put behind all others."""
         number = len(self.steps)
-        level, claim = claim_of(self.sentence, self.made, step)
+        level, claim = claim_of(self.told, self.made, step)
         # What is refused here might not be needed in the end, but mostly it is,
         # and what is made of such claims grows ever faster.
         if number == MAX_STEPS or len(claim) > MAX_CLAIM:

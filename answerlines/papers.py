@@ -2,7 +2,7 @@
 
 from answerlines.bounds import MAX_CLAIM, MAX_STEPS
 from answerlines.claims import falling, meeting_row, rests, rising, thinned
-from answerlines.fractions import is_fraction
+from answerlines.forms import is_form
 from answerlines.integers import is_integer
 from answerlines.rows import contrary, put
 from answerlines.sentences import owner_of
@@ -115,7 +115,7 @@ def _is_step_form(value):
     if not isinstance(value, tuple) or len(value) not in (2, 3):
         return False
     if value[0] == "answer":
-        return len(value) == 3 and _is_place(value[1]) and _is_form(value[2])
+        return len(value) == 3 and _is_place(value[1]) and is_form(value[2])
     if len(value) == 3:
         return False
     if value[0] == "lot":
@@ -131,10 +131,6 @@ def _is_place(value):
 
 def _are_places(value):
     return isinstance(value, tuple) and all([_is_place(item) for item in value])
-
-
-def _is_form(value):
-    return isinstance(value, tuple) and len(value) > 0 and all([is_fraction(item) for item in value])
 
 
 def _step_error(sentence, side, made, step):

@@ -3,6 +3,7 @@
 from answerlines.errors import BadText
 from answerlines.integers import read_figures
 from answerlines.sentences import is_owners, lot_error, sentence_error
+from answerlines.sumtexts import signed_parts
 
 SIGNS = {"ge": ">=", "gt": ">"}
 WORDS_OF_SIGNS = {">=": "ge", ">": "gt"}
@@ -36,11 +37,7 @@ def _sum_text(numbers):
             parts.append((number, _part_text(abs(number), unknown)))
     if numbers[0] != 0 or not parts:
         parts.append((numbers[0], str(abs(numbers[0]))))
-    first, part = parts[0]
-    text = f"-{part}" if first < 0 else part
-    for number, part in parts[1:]:
-        text += f" - {part}" if number < 0 else f" + {part}"
-    return text
+    return signed_parts(parts)
 
 
 def _part_text(size, unknown):

@@ -54,6 +54,24 @@ ARGUMENTS = {
     "slim": ("sentence",),
     "formula_error": ("value",),
     "free_names": ("formula",),
+    "formula_text": ("formula",),
+    "read_formula": ("value",),
+    "closed_in": ("formula", "world"),
+    "holds_in": ("formula", "world"),
+    "prenexed": ("formula",),
+    "compiled": ("formula",),
+    "formula_solved": ("formula",),
+    "formula_reply": ("formula", "paper", "numbers"),
+    "stretches_error": ("value",),
+    "in_stretches": ("row", "fraction"),
+    "joined": ("one", "other"),
+    "met": ("one", "other"),
+    "outside": ("row",),
+    "simplest": ("row",),
+    "least": ("row",),
+    "greatest": ("row",),
+    "firsts": ("sentence",),
+    "stretches": ("formula",),
 }
 
 OF_SIXTY = 10 ** 59 + 7
@@ -136,6 +154,15 @@ class Checks:
         told = asked(function, *arguments)
         if not same(wanted, told):
             self.fail(f"{function.__name__}: {brief(told)} is not {brief(wanted)}, of {brief(arguments)}")
+
+    def raises_just(self, wanted, function, *arguments):
+        """Check that function raises an error just like wanted: of its class, and keeping the same."""
+        try:
+            told = asked(function, *arguments)
+        except LineError as error:
+            self.assertTrue(same(wanted, error), f"{type(error).__name__} {vars(error)}")
+        else:
+            self.fail(f"{function.__name__}: {brief(told)} and no error, of {brief(arguments)}")
 
     def refuses(self, wanted, function, *arguments):
         """Check that function raises an error of just this class."""

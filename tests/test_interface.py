@@ -24,6 +24,13 @@ INTERFACE = {
     "search": ("find", "decided", "winner", "core"),
     "sums": ("follows", "counter", "weights", "weights_error", "slim"),
     "formulas": ("formula_error", "free_names"),
+    "formulatexts": ("formula_text", "read_formula"),
+    "truths": ("holds_in", "closed_in"),
+    "compiling": ("prenexed", "compiled", "formula_solved", "formula_reply"),
+    "stretches": (
+        "stretches_error", "in_stretches", "joined", "met", "outside", "simplest", "least", "greatest", "firsts",
+        "stretches",
+    ),
 }
 
 

@@ -12,7 +12,7 @@ TREES = {stem: ast.parse(text) for stem, text in FILES.items()}
 LIBRARY = {"math": {"gcd", "lcm", "isqrt"}}
 ALLOWED = set(
     "len range enumerate zip min max sum abs sorted reversed int str bool list tuple dict set isinstance ord repr"
-    " any all divmod ValueError TypeError KeyError IndexError LookupError NotImplemented property super".split()
+    " any all divmod ValueError TypeError KeyError IndexError LookupError NotImplemented property super type".split()
 )
 BARRED = set(
     "register mro elements open input law version_info with_traceback add_note compile copyright credits dir eval"
@@ -81,6 +81,33 @@ class Language(unittest.TestCase):
         for stem, node in nodes(ast.Name):
             if node.id in vars(builtins):
                 self.assertIn(node.id, ALLOWED, stem)
+
+    def test_l8_l17_type(self):
+        places = [(stem, node) for stem, node in nodes(ast.Name) if node.id == "type"]
+        told = [(stem, ast.unparse(node)) for stem, node in nodes(ast.Attribute) if node.attr == "__name__"]
+        self.assertEqual(len(places), len(told))
+        for stem, text in told:
+            self.assertRegex(text, r"^type\(\w+\)\.__name__$", stem)
+
+    def test_l5_properties(self):
+        functions = [node for _, node in nodes(ast.FunctionDef)]
+        own = {node.name for node in functions if [ast.unparse(told) for told in node.decorator_list] == ["property"]}
+        plain = {node.name for node in functions if not node.decorator_list}
+        self.assertFalse(own & plain)
+        for stem, node in nodes(ast.Attribute):
+            if isinstance(node.ctx, (ast.Store, ast.Del)):
+                self.assertNotIn(node.attr, own, stem)
+
+    def test_l18_no_name_is_a_method_and_an_attribute(self):
+        methods = {node.name for _, told in nodes(ast.ClassDef) for node in told.body if isinstance(node, ast.FunctionDef)}
+        stored = {node.attr for _, node in nodes(ast.Attribute) if isinstance(node.ctx, ast.Store)}
+        self.assertFalse(methods & stored)
+
+    def test_l20_is(self):
+        for stem, node in nodes(ast.Compare):
+            for sign, other in zip(node.ops, node.comparators):
+                if isinstance(sign, (ast.Is, ast.IsNot)):
+                    self.assertIsInstance(other, ast.Constant, stem)
 
     def test_l10_size(self):
         for stem, text in FILES.items():
