@@ -2,7 +2,7 @@
 
 from answerlines.comparisons import read_comparison
 from answerlines.errors import BadText
-from answerlines.formulas import COMPARISONS, QUANTIFIERS, formula_error, is_name
+from answerlines.formulas import COMPARISONS, QUANTIFIERS, formula_error
 from answerlines.sumtexts import sum_text
 from answerlines.tokens import Tokens
 
@@ -98,10 +98,8 @@ def _begun(tokens, frames):
     elif token == "(":
         frames.append(Frame(token, ""))
     else:
-        name = tokens.take()
-        if not is_name(name):
-            raise BadText()
-        frames.append(Frame(token, name))
+        # What is no name is refused in the end, with all else that makes no formula.
+        frames.append(Frame(token, tokens.take()))
     return None
 
 

@@ -43,3 +43,10 @@ def lot_error(n, place, value):
 def owner_of(sentence, number):
     """Return who names the unknown number: "each" or "some"."""
     return "each" if sentence[0][number - 1] == "e" else "some"
+
+
+def with_one_ahead(sentence):
+    """Return sentence with an unknown of SOME's ahead of all others, of which no row says anything."""
+    owners, lots = sentence
+    moved = [tuple([(word, (numbers[0], 0) + numbers[1:]) for word, numbers in lot]) for lot in lots]
+    return ("s" + owners, tuple(moved))

@@ -61,11 +61,6 @@ def _run_end(text, spot, signs):
     return spot
 
 
-def is_word(token):
-    """Return whether token is a word."""
-    return token != "" and token[0] in LETTERS
-
-
 def is_number(token):
     """Return whether token is a row of figures."""
     return token != "" and token[0] in FIGURES

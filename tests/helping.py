@@ -72,6 +72,21 @@ ARGUMENTS = {
     "greatest": ("row",),
     "firsts": ("sentence",),
     "stretches": ("formula",),
+    "parting": ("one", "other"),
+    "with_least": ("sentence", "form", "value"),
+    "best_sure": ("sentence", "form"),
+    "plan_error": ("value",),
+    "plan_text": ("plan",),
+    "read_plan": ("value",),
+    "outcome": ("plan", "times"),
+    "plan_sentence": ("plan",),
+    "can_keep": ("plan",),
+    "plan_paper": ("plan",),
+    "next_time": ("plan", "paper", "times"),
+    "first_times": ("plan",),
+    "longest": ("plan", "event"),
+    "least_span": ("plan", "i", "j"),
+    "desk_behind": ("owners", "log"),
 }
 
 OF_SIXTY = 10 ** 59 + 7

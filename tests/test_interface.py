@@ -31,6 +31,21 @@ INTERFACE = {
         "stretches_error", "in_stretches", "joined", "met", "outside", "simplest", "least", "greatest", "firsts",
         "stretches",
     ),
+    "bests": ("parting", "with_least", "best_sure"),
+    "plans": ("plan_error", "plan_text", "read_plan", "outcome"),
+    "planning": (
+        "plan_sentence", "can_keep", "plan_paper", "next_time", "first_times", "longest", "least_span",
+    ),
+    "desks": ("desk_behind",),
+}
+# The classes, and what each of their methods takes behind self; None for a property.
+CLASSES = {
+    ("desks", "Desk"): {
+        "__init__": ("owners",), "owners": None, "lots": None, "sentence": None, "version": None, "log": None,
+        "found": None, "put": ("lot",), "drop": ("place",), "turn": ("number",), "undo": (), "redo": (),
+        "at": ("version",), "copy": (), "paper": (), "who": (), "reply": ("play",), "best": ("form",),
+    },
+    ("shells", "Shell"): {"__init__": (), "say": ("line",)},
 }
 
 
@@ -50,6 +65,19 @@ class Interface(unittest.TestCase):
                 for parameter in inspect.signature(function).parameters.values():
                     self.assertIs(inspect.Parameter.POSITIONAL_OR_KEYWORD, parameter.kind)
                     self.assertIs(inspect.Parameter.empty, parameter.default)
+
+    def test_each_class_is_defined_in_its_file_with_its_methods(self):
+        for (module, name), methods in CLASSES.items():
+            tree = ast.parse((PACKAGE / f"{module}.py").read_text(encoding="utf-8"))
+            body = [node for node in tree.body if isinstance(node, ast.ClassDef) and node.name == name][0].body
+            defined = {node.name for node in body if isinstance(node, ast.FunctionDef)}
+            self.assertLessEqual(set(methods), defined)
+            made = getattr(importlib.import_module(f"answerlines.{module}"), name)
+            for method, told in methods.items():
+                if told is None:
+                    self.assertIsInstance(vars(made)[method], property)
+                else:
+                    self.assertEqual(("self",) + told, parameters(vars(made)[method]))
 
     def test_all_functions_of_the_interface_are_asked_by_these_names(self):
         self.assertEqual(sorted(ARGUMENTS), sorted(name for names in INTERFACE.values() for name in names))

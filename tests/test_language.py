@@ -99,7 +99,8 @@ class Language(unittest.TestCase):
                 self.assertNotIn(node.attr, own, stem)
 
     def test_l18_no_name_is_a_method_and_an_attribute(self):
-        methods = {node.name for _, told in nodes(ast.ClassDef) for node in told.body if isinstance(node, ast.FunctionDef)}
+        inner = [node for _, told in nodes(ast.ClassDef) for node in told.body]
+        methods = {node.name for node in inner if isinstance(node, ast.FunctionDef)}
         stored = {node.attr for _, node in nodes(ast.Attribute) if isinstance(node.ctx, ast.Store)}
         self.assertFalse(methods & stored)
 
